@@ -63,6 +63,10 @@ func TestGoodFiles(t *testing.T) {
 		c := config()
 		c.Rate = 8 + x.next(150)
 		c.Room = 300 + x.next(1000)
+		if seed%4 == 0 {
+			// Frames without loss are exactly at their bound.
+			c.QMin, c.Rate, c.Room, c.Fill = 0, 9000, 9000, 9000
+		}
 		l := x.video(8+x.next(2)*8, 8+x.next(2)*8, 1+x.next(8))
 		src := encoded(l)
 		file, err := whole.Run(c, src)

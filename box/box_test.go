@@ -249,7 +249,7 @@ func TestOpenErrors(t *testing.T) {
 		{sound(at(0, api.Coded{Kind: api.UPart, Data: units(t)[0].Data})), "box 0: code 2"}, {sound(data(0, units(t)[0].Data[:21]...)), "box 0: code 2"}, {sound(data(0, append(units(t)[0].Data, 0)...)), "box 0: code 2"},
 		{sound(head(0, 0)), "box 0: code 2"}, {sound(head(0, 5)), "box 0: code 2"}, {sound(head(1, 0)), "box 0: code 2"}, {sound(head(1, 5)), "box 0: code 2"}, {sound(head(2, 0)), "box 0: code 2"}, {sound(head(2, 17)), "box 0: code 2"},
 		{sound(head(3, 0)), "box 0: code 2"}, {sound(head(3, 4)), "box 0: code 2"}, {sound(head(4, 15)), "box 0: code 2"}, {sound(head(5, 16)), "box 0: code 2"}, {sound(head(6, 8)), "box 0: code 2"}, {sound(head(7, 0)), "box 0: code 2"},
-		{sound(head(8, 64)), "box 0: code 2"}, {sound(head(10, 1)), "box 0: code 2"}, {sound(head(13, 7)), "box 0: code 2"}, {sound(head(17, 19)), "box 0: code 2"}, {sound(head(21, 61)), "box 0: code 2"},
+		{sound(head(8, 64)), "box 0: code 2"}, {sound(head(10, 1)), "box 0: code 2"}, {sound(head(14, 1)), "box 0: code 2"}, {sound(head(18, 1)), "box 0: code 2"}, {sound(head(13, 7)), "box 0: code 2"}, {sound(head(17, 19)), "box 0: code 2"}, {sound(head(21, 61)), "box 0: code 2"},
 		{sound(head(2, 2)), "box 1: code 2"}, {sound(head(2, 4)), "box 6: code 2"}, {sound(head(3, 1)), "box 1: code 2"}, {sound(head(3, 3)), "box 1: code 2"},
 		{sound(at(1, key)), "box 1: code 2"}, {sound(insert(1, fill)), "box 1: code 2"}, {sound(part(1, 1, 0, 2)), "box 1: code 2"}, {sound(part(1, 0, 1, 2)), "box 1: code 2"}, {sound(part(1, 0, 0, 0)), "box 1: code 2"},
 		{sound(part(1, 0, 0, 3)), "box 1: code 2"}, {sound(part(1, 0, 0, 2, 0)), "box 1: code 2"}, {joined(part(1, 0, 0)), "box 1: code 2"}, {sound(part(1, 0, 0, 1)), "box 3: code 2"},
@@ -336,6 +336,10 @@ func TestPartErrors(t *testing.T) {
 		if err == nil && (len(coded) != 2 || !sameCoded(coded[0], c.l[1]) || len(fills) != 2 || fills[0] != i || fills[1] != 1-i) {
 			t.Errorf("P24.3: case %d: %v, %v", i, coded, fills)
 		}
+	}
+	alone := b[e.Offset : e.Offset+e.Length]
+	if coded, fills, err := box.Part(alone, api.Entry{First: e.First, Count: e.Count, Length: e.Length}); err != nil || len(coded) != 2 || !slices.Equal(fills, []int{0, 2}) {
+		t.Errorf("P24.3: a part at the beginning: %v, %v", fills, err)
 	}
 	e.First = 1
 	if _, _, err := box.Part(b, e); fault.Text(err) != "part 0: code 2" {

@@ -105,6 +105,13 @@ func calls(l []int) []string {
 	return all
 }
 
+func side(n int) int {
+	if n == 16 {
+		return 4
+	}
+	return 8
+}
+
 // blocks are blocks of levels: one level at each place and of each size, few and many of them.
 func blocks(n int) [][]int {
 	all := [][]int{make([]int, n)}
@@ -117,6 +124,16 @@ func blocks(n int) [][]int {
 			b[at] = -size
 			all = append(all, b)
 		}
+	}
+	order := block.Order(side(n))
+	for last := range n {
+		// All levels up to one place, and only the first one and that one.
+		whole, ends := make([]int, n), make([]int, n)
+		for _, at := range order[:last+1] {
+			whole[at] = 1
+		}
+		ends[order[0]], ends[order[last]] = 3, -2
+		all = append(all, whole, ends)
 	}
 	x := noise(n)
 	for seed := range 60 {
@@ -274,6 +291,14 @@ func TestAnswersDecide(t *testing.T) {
 	want := make([]int, 16)
 	want[1] = -1
 	if err != nil || !slices.Equal(got, want) || !slices.Equal(c.calls, []string{"14-", "15-", "16-", "f-", "31-", "24+"}) {
+		t.Errorf("P14.2: %v, %v, by %v", got, err, c.calls)
+	}
+	// A coder that says that there are levels where there are none: what it answers counts.
+	c = &teller{answers: slices.Concat([]bool{true}, slices.Repeat([]bool{false}, 15), []bool{true, false})}
+	got, err = coef.Code(c, make([]int, 16))
+	want = make([]int, 16)
+	want[15] = -1
+	if err != nil || !slices.Equal(got, want) || len(c.calls) != 18 || c.calls[16] != "f-" || c.calls[17] != "31-" {
 		t.Errorf("P14.2: %v, %v, by %v", got, err, c.calls)
 	}
 	c = &teller{answers: []bool{false}}

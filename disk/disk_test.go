@@ -325,6 +325,15 @@ func TestCrashPicksOfLostFiles(t *testing.T) {
 	d.Crash([]int{1, 1, 2, 3})
 	wants(t, "P5.4", d, "a=1/1 b=12/2")
 
+	// The file that another one replaced has no step of its own: only the safe directory leads to it.
+	d, _ = disk.Load(99, []api.File{{Name: "a", Data: []byte("1234"), Safe: 1}, {Name: "b", Data: []byte("5678"), Safe: 1}})
+	must(t, d.Rename("a", "b"), d.Create("c"), d.Append("c", []byte("1234")))
+	replaced := d.Copy()
+	d.Crash([]int{0, 1, 2, 3})
+	wants(t, "P5.4", d, "a=12/2 b=567/3")
+	replaced.Crash([]int{2, 1, 2, 3})
+	wants(t, "P5.5", replaced, "b=12/2 c=123/3")
+
 	// After SyncDir, files without a name no longer exist, and take none.
 	d, _ = disk.Load(99, []api.File{{Name: "a", Data: []byte("1234"), Safe: 0}})
 	must(t, d.Create("b"), d.Append("b", []byte("1234")), d.Rename("b", "a"), d.SyncDir(), d.Create("c"), d.Append("c", []byte("1234")), d.SyncDir())

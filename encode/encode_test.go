@@ -196,6 +196,39 @@ func TestEqualCosts(t *testing.T) {
 	}
 }
 
+// TestNearlyEqualCosts: vectors of odd lengths make costs that differ by 1.
+func TestNearlyEqualCosts(t *testing.T) {
+	var near [3]int
+	for seed := range 20000 {
+		x := noise(seed)
+		prev := flat(16, 16, 0)
+		for i := range prev.Pix {
+			// Each quarter of the block is nearly flat, so that four pieces are good.
+			prev.Pix[i] = 100 + i/16/4*23%50 + i%16/4*31%70 + x.next(4)
+		}
+		src := flat(16, 16, 0)
+		dx, dy, little := x.next(5)-2, x.next(5)-2, 4+x.next(14)
+		for i := range src.Pix {
+			src.Pix[i] = motion.Half(prev, 2*(i%16)+dx, 2*(i/16)+dy)
+		}
+		for i := range prev.Pix {
+			prev.Pix[i] = plane.Clip(prev.Pix[i] + x.next(little) - little/2)
+		}
+		want, costs := square(src, src, prev, false, 8, 8, 0, 2)
+		d := costs[3] - costs[1]
+		if want.Kind == 0 || costs[3] >= costs[2] || d < -1 || d > 1 {
+			continue
+		}
+		near[d+1]++
+		if got, err := encode.Square(src, src, prev, false, 8, 8, 0, 2); err != nil || !same(got, want) {
+			t.Fatalf("P22.2: costs %v: kind %d, not %d", costs, got.Kind, want.Kind)
+		}
+	}
+	if slices.Min(near[:]) == 0 {
+		t.Errorf("costs differed by -1, 0 and 1 %v times", near)
+	}
+}
+
 func TestErrors(t *testing.T) {
 	f, turned, bad := flat(16, 24, 9), flat(24, 16, 9), flat(16, 24, 9)
 	bad.Pix[5] = 256
@@ -209,6 +242,7 @@ func TestErrors(t *testing.T) {
 		{f, bad, bad, false, 4, 0, 16, 8, api.ErrForm, api.ErrState}, {f, turned, bad, false, 4, 0, 16, 8, api.ErrFit, api.ErrState},
 		{f, turned, f, true, 0, 0, 0, 0, api.ErrFit, nil}, {f, flat(16, 16, 1), f, true, 0, 0, 0, 0, api.ErrFit, nil},
 		{f, f, bad, false, 4, 0, 16, 8, api.ErrState, api.ErrState}, {f, f, turned, false, 0, 0, 0, 0, api.ErrState, api.ErrState}, {f, f, api.Frame{}, false, 0, 0, 0, 0, api.ErrState, api.ErrState},
+		{f, f, flat(16, 16, 9), false, 0, 0, 0, 0, api.ErrState, api.ErrState}, {f, f, flat(8, 24, 9), false, 0, 0, 0, 0, api.ErrState, api.ErrState}, {f, flat(8, 24, 9), f, false, 0, 0, 0, 0, api.ErrFit, nil},
 		{f, f, api.Frame{}, true, 0, 0, 16, 0, api.ErrRange, api.ErrRange}, {f, f, f, false, 0, 0, -1, 0, api.ErrRange, api.ErrRange}, {f, f, f, false, 0, 0, 0, 8, api.ErrRange, api.ErrRange},
 		{f, f, f, true, 0, 0, 0, -1, api.ErrRange, api.ErrRange}, {f, f, f, true, 4, 0, 0, 0, api.ErrRange, nil}, {f, f, f, true, 0, 12, 0, 0, api.ErrRange, nil},
 		{f, f, f, false, 16, 0, 0, 0, api.ErrRange, nil}, {f, f, f, false, 0, 24, 0, 0, api.ErrRange, nil}, {f, f, f, false, -8, 0, 0, 0, api.ErrRange, nil}, {f, f, f, false, 0, -8, 0, 0, api.ErrRange, nil},

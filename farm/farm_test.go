@@ -499,6 +499,7 @@ func TestGoesDown(t *testing.T) {
 	}
 }
 
+// TestFullDisk gives the disk more room behind the back of the farm, which retains it (P28.5).
 func TestFullDisk(t *testing.T) {
 	w := newWorld(t, 2)
 	head := len(packed(start(w.key, 1)))

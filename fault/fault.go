@@ -76,7 +76,7 @@ func Is(err error, c api.Code) bool {
 func Path(err error) []Step {
 	var path []Step
 	var f *Fault
-	for errors.As(err, &f) {
+	for errors.As(err, &f) && f != nil {
 		path = append(path, Step{Where: f.Where, Place: f.Place})
 		err = f.Err
 	}

@@ -137,6 +137,9 @@ func TestNoChunks(t *testing.T) {
 	if r, ok := j.End(); ok || r != (log.Rec{}) {
 		t.Error("P27.2: End of a job that failed")
 	}
+	if j := begun(t, start(5, 1)); j.Apply(failed(13)) != error(api.ErrFit) || j.State() != 1 {
+		t.Error("P27.1: UFail of a job with one chunk")
+	}
 }
 
 func TestRemainsSo(t *testing.T) {

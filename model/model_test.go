@@ -212,6 +212,8 @@ func TestAnswersDecide(t *testing.T) {
 		{part(9), []bool{false}, 0, []string{"6+"}}, {part(-9), []bool{true, false, true, false}, 2, []string{"6+", "f+", "7+", "8+"}},
 		{part(2), []bool{true, true, true, true, true, false}, -4, []string{"6+", "f-", "7+", "8-", "9-", "10-"}},
 		{part(1), []bool{true, true, false}, -1, []string{"6+", "f-", "7-"}},
+		{part(0), []bool{true, false, false}, 1, []string{"6-", "f-", "7-"}},
+		{part(0), []bool{true, true, true, false}, -2, []string{"6-", "f-", "7-", "8-"}},
 	} {
 		c0 := &teller{answers: c.answers}
 		if got := c.f(c0); got != c.want || !slices.Equal(c0.calls, c.calls) {

@@ -218,6 +218,21 @@ func TestFirstOfEqual(t *testing.T) {
 	}
 }
 
+// TestFirstOfEqualInARow: only the vectors left and right cost the same.
+func TestFirstOfEqualInARow(t *testing.T) {
+	f, _ := plane.New(24, 24, 0)
+	for i := range f.Pix {
+		f.Pix[i] = i % 24 % 2 * 100
+	}
+	b := motion.Block(f, 8, 8, 8, api.Vector{X: 2})
+	if v, _ := motion.Search(f, b, 8, 8, 1); v != (api.Vector{X: -2}) {
+		t.Errorf("P11.4: the first of equal vectors is not %v", v)
+	}
+	if v, _ := motion.Search(f, slices.Repeat([]int{50}, 64), 8, 8, 0); v != (api.Vector{X: -1}) {
+		t.Errorf("P11.4: the first of equal half vectors is not %v", v)
+	}
+}
+
 func TestSearchErrors(t *testing.T) {
 	f, b := frame(16, 8, 3), noise(64, 1)
 	high, low := slices.Clone(b), slices.Clone(b)

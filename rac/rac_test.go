@@ -215,6 +215,34 @@ func TestCarry(t *testing.T) {
 	}
 }
 
+// TestExactCarry: the lowest four bytes of the low become exactly 2^32.
+func TestExactCarry(t *testing.T) {
+	e, x := rac.NewEncoder(), newExact()
+	for _, c := range []call{{2016, true}, {14, false}, {9, true}, {1, true}, {2047, false}, {5, false}, {5, false}} {
+		code(t, e, c)
+		x.narrow(x.w(c.p), c.b)
+		if !bytes.Equal(e.End(), x.end()) {
+			t.Fatalf("P12.1: %X, not %X", e.End(), x.end())
+		}
+	}
+}
+
+// TestLeastWidth: after eight flat bits that are true, the width is 2^24, and nothing is shifted yet.
+func TestLeastWidth(t *testing.T) {
+	e := rac.NewEncoder()
+	in := []byte{0xFF, 0xFF, 0xFF, 0xFE}
+	d, x := rac.NewDecoder(in), newExact()
+	for i := range 20 {
+		e.Flat(true)
+		if got := d.Flat(); got != x.read(in, 0) {
+			t.Fatalf("P12.2: bit %d is %v", i, got)
+		}
+		if e.Len() != 4+i/8 || d.Over() != x.shifts || i == 7 && x.width != 1<<24 {
+			t.Fatalf("P12.1, P12.2: bit %d: Len is %d, Over is %d", i, e.Len(), d.Over())
+		}
+	}
+}
+
 func TestRoundTrip(t *testing.T) {
 	for seed := range 60 {
 		for _, n := range []int{0, 1, 2, 9, 100, 1500} {

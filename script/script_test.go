@@ -112,6 +112,13 @@ func TestPictures(t *testing.T) {
 			t.Fatalf("P31.2: the frames of %v: %v", b, err)
 		}
 	}
+	raw := []byte{0, 0, 3, 7, 1, 2, 3, 4, 5}
+	src, rest = script.Pictures(raw)
+	clear(raw)
+	_ = append(src, 9, 9)
+	if !bytes.Equal(src, []byte{1, 2, 3}) || !bytes.Equal(rest, []byte{4, 5}) {
+		t.Error("P0.4: the source and the rest share memory")
+	}
 	for n := range 4 {
 		b := []byte{1, 3, 5}[:n]
 		src, rest := script.Pictures(b)

@@ -151,6 +151,9 @@ func TestActs(t *testing.T) {
 	if s.Do(crash()) != nil || s.Up() || s.Workers() != 0 || s.State() != 0 || len(s.Missing()) > 0 || len(s.Made()) > 0 || s.Steps() != 0 {
 		t.Error("P29.2, P29.3: after a crash there is no farm")
 	}
+	if s.Do(started(64)) != nil || s.Workers() != 64 || s.Do(crash()) != nil {
+		t.Error("P29.2: Start with the most workers")
+	}
 	if s.Do(started(5)) != nil || s.Workers() != 5 || !s.Up() || s.State() != 1 {
 		t.Error("P29.2: Start with a number of workers")
 	}

@@ -146,6 +146,24 @@ func TestSmallestK(t *testing.T) {
 	}
 }
 
+// TestGreatestK: with k 8, the greatest differences would take fewer bits, but there is none.
+func TestGreatestK(t *testing.T) {
+	f := flat(8, 8, 0)
+	for i := range f.Pix {
+		f.Pix[i] = 255
+		if guess(f, i%8, i/8) > 127 {
+			f.Pix[i] = 0
+		}
+	}
+	b, err := source.Encode([]api.Frame{f})
+	if err != nil || b[5]>>5 != 7 || !bytes.Equal(b, encoding([]api.Frame{f})) {
+		t.Errorf("P15.1: k is not 7 (%v)", err)
+	}
+	if l, err := source.Decode(b); err != nil || !same(l, []api.Frame{f}) {
+		t.Errorf("P15.4: the greatest differences: %v", err)
+	}
+}
+
 func TestEncodeErrors(t *testing.T) {
 	bad := flat(8, 8, 0)
 	bad.Pix[9] = 300

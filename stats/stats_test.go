@@ -141,6 +141,10 @@ func TestWeights(t *testing.T) {
 			t.Errorf("P17.3: groups %v: %v", g, got)
 		}
 	}
+	inner, _ := stats.Inner(l[0])
+	if w, err := stats.Weights(l[:1], []api.Group{{First: 0, Count: 1}}); err != nil || !slices.Equal(w, []int{64 + 2*inner}) {
+		t.Errorf("P17.2: one frame: %v, %v", w, err)
+	}
 	other := slices.Clone(l)
 	other[0], other[4] = flat(16, 16, 0), flat(16, 16, 255)
 	a, _ := stats.Weights(l, []api.Group{{First: 0, Count: 5}})

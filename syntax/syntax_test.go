@@ -239,6 +239,16 @@ func TestCodeErrors(t *testing.T) {
 			t.Errorf("P20.2: case %d: %v with a reader", i, err)
 		}
 	}
+	for _, v := range []int{api.MaxLevel, -api.MaxLevel} {
+		s := syntax.Square{Kind: 3, Small: four}
+		s.Small[2] = slices.Repeat([]int{v}, 16)
+		if got, err := syntax.Code(model.NewWriter(), true, s); err != nil || !same(got, s) {
+			t.Errorf("P20.2: the greatest levels: %v", err)
+		}
+		if _, err := syntax.Code(model.NewWriter(), true, syntax.Square{Kind: 2, Large: slices.Repeat([]int{v}, 64)}); err != nil {
+			t.Errorf("P20.2: the greatest levels: %v", err)
+		}
+	}
 	got, err := syntax.Code(model.NewWriter(), false, syntax.Square{Kind: 0, Large: high})
 	if err != nil || !same(got, syntax.Square{}) {
 		t.Errorf("P20.2: kind 0: %v, %v", got, err)

@@ -122,9 +122,12 @@ func TestNext(t *testing.T) {
 	if err != nil || u.Kind != 7 || string(u.Data) != "abc" || u.At != 2 || u.End != 13 {
 		t.Errorf("P4.2: %v, %v", u, err)
 	}
-	most := made(t, 200, noise(api.MaxUnit, 3))
-	if u, err := unit.Next(most, 0); err != nil || len(u.Data) != api.MaxUnit || u.End != len(most) {
-		t.Error("P4.2: a unit of MaxUnit bytes")
+	for _, n := range []int{255, 256, 257, 4660, 65535, api.MaxUnit} {
+		data := noise(n, 3)
+		long := made(t, 200, data)
+		if u, err := unit.Next(append(slices.Clone(long), 7), 0); err != nil || !bytes.Equal(u.Data, data) || u.End != len(long) {
+			t.Errorf("P4.2: a unit of %d bytes", n)
+		}
 	}
 }
 

@@ -129,12 +129,21 @@ func TestStitchErrors(t *testing.T) {
 	}
 	other := slices.Clone(l)
 	other[2].Number = 1
+	// Chunks that go together, but in other groups than those of the plan.
+	divided := []gop.Chunk{
+		{Number: 0, Group: api.Group{First: 0, Count: 1}, Coded: []api.Coded{{Kind: api.UFlat}}},
+		{Number: 1, Group: api.Group{First: 1, Count: 2}, Coded: []api.Coded{{Kind: api.UFlat}, {Kind: api.USkip}}},
+		{Number: 2, Group: api.Group{First: 3, Count: 2}, Coded: []api.Coded{{Kind: api.UFlat}, {Kind: api.USkip}}},
+	}
+	if _, err := box.Mux(c, 8, 8, divided); err != nil {
+		t.Fatal(err)
+	}
 	for i, c2 := range []struct {
 		l    []gop.Chunk
 		want string
 	}{
 		{l[:2], "code 14"}, {append(slices.Clone(l), l[2]), "code 14"}, {nil, "code 14"}, {[]gop.Chunk{l[1], l[0], l[2]}, "code 14"}, {[]gop.Chunk{l[0], l[1], l[1]}, "code 14"},
-		{other, "code 14"}, {[]gop.Chunk{l[0], l[1], {Number: 2, Group: l[2].Group}}, "code 2"}, {l, ""},
+		{divided, "code 14"}, {other, "code 14"}, {[]gop.Chunk{l[0], l[1], {Number: 2, Group: l[2].Group}}, "code 2"}, {l, ""},
 	} {
 		if b, err := whole.Stitch(c, p, c2.l); fault.Text(err) != c2.want || err != nil && len(b) > 0 {
 			t.Errorf("P25.2: case %d: %s, not %s", i, fault.Text(err), c2.want)
